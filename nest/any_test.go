@@ -7,22 +7,23 @@ import (
 
 	"winnowing/api"
 	"winnowing/nest"
+	"winnowing/probe"
 	"winnowing/toks"
 )
 
 // R1 and P1: no call panics, whatever it is given.
 func TestAnyArguments(t *testing.T) {
 	for deep := -2; deep < 64; deep++ {
-		nest.Parse(wildTokens(), deep)
+		nest.Parse(probe.WildTokens(), deep)
 		nest.Parse(nil, deep)
 	}
-	w := newWild(1)
+	w := probe.NewWild(1)
 	for range 3000 {
-		l := w.vals(4)
-		nest.Parse(nest.Flat(l), 1+w.below(60))
+		l := w.Vals(4)
+		nest.Parse(nest.Flat(l), 1+w.Below(60))
 		nest.May(l)
 		nest.Depth(l)
-		nest.Same(l, w.vals(4))
+		nest.Same(l, w.Vals(4))
 	}
 	if v, err := nest.Parse(nil, 1); err != api.OK || len(v) != 0 {
 		t.Error("no tokens")
@@ -56,7 +57,7 @@ func TestLongAndDeep(t *testing.T) {
 
 // R4: the arguments stay as they were, also behind their ends.
 func TestArgumentsStay(t *testing.T) {
-	l := append(toks.All("a(b{c}]) ("), wildTokens()...)
+	l := append(toks.All("a(b{c}]) ("), probe.WildTokens()...)
 	spare := append(slices.Clone(l), ident("spare"))
 	before := slices.Clone(spare)
 	nest.Parse(spare[:len(l)], api.MaxDeep)
@@ -64,9 +65,9 @@ func TestArgumentsStay(t *testing.T) {
 	if !slices.Equal(spare, before) {
 		t.Error("Parse changed its argument")
 	}
-	w := newWild(21)
+	w := probe.NewWild(21)
 	for range 200 {
-		v := append(w.vals(3), name("spare"))
+		v := append(w.Vals(3), name("spare"))
 		told := tell(v)
 		arg := v[:len(v)-1]
 		nest.Flat(arg)
@@ -86,7 +87,7 @@ func TestResultsAreNew(t *testing.T) {
 	first, _ := nest.Parse(l, api.MaxDeep)
 	told := tell(first)
 	second, _ := nest.Parse(l, api.MaxDeep)
-	overwrite(second)
+	probe.Overwrite(second)
 	flat := nest.Flat(first)
 	for i := range flat {
 		flat[i] = api.Token{}
@@ -94,24 +95,9 @@ func TestResultsAreNew(t *testing.T) {
 	if tell(first) != told || !slices.Equal(l, kept) {
 		t.Error("a result shares memory with another call's, or with an argument")
 	}
-	growEach(first)
+	probe.WriteBehind(first)
 	if tell(first) != told {
 		t.Error("two lists of a result share memory")
-	}
-}
-
-func overwrite(l []api.Val) {
-	for i := range l {
-		overwrite(l[i].L)
-		l[i] = api.Val{}
-	}
-}
-
-// growEach writes behind the end of each list, where another one must not lie.
-func growEach(l []api.Val) {
-	_ = append(l, name("x"), name("y"))
-	for _, v := range l {
-		growEach(v.L)
 	}
 }
 

@@ -7,6 +7,7 @@ import (
 
 	"winnowing/api"
 	"winnowing/nest"
+	"winnowing/probe"
 	"winnowing/toks"
 )
 
@@ -91,7 +92,7 @@ func TestParse(t *testing.T) {
 
 // P2.1: which tokens open and close, of those that no text has.
 func TestOpeningAndClosingTokens(t *testing.T) {
-	for _, x := range wildTokens() {
+	for _, x := range probe.WildTokens() {
 		plain := x.Kind == api.TokDelim && x.N == 0
 		want := tok(x)
 		switch {
@@ -238,22 +239,22 @@ func checkAgainstReference(t *testing.T, l []api.Token, deep int) {
 func TestAgainstReference(t *testing.T) {
 	alphabet := toks.All("a(f([{)]}")
 	alphabet = append(alphabet, api.Token{Kind: api.TokDelim, Text: ")", N: 1})
-	eachTokens(alphabet, 4, func(l []api.Token) {
+	probe.Each(alphabet, 4, func(l []api.Token) {
 		for deep := 1; deep <= 4; deep++ {
 			checkAgainstReference(t, l, deep)
 		}
 	})
-	eachTokens(toks.All("([)]}"), 6, func(l []api.Token) { checkAgainstReference(t, l, api.MaxDeep) })
-	var c chance = 5
-	all := append(wildTokens(), alphabet...)
+	probe.Each(toks.All("([)]}"), 6, func(l []api.Token) { checkAgainstReference(t, l, api.MaxDeep) })
+	var c probe.Chance = 5
+	all := append(probe.WildTokens(), alphabet...)
 	for i := range 2000 {
-		l := make([]api.Token, c.below(150))
+		l := make([]api.Token, c.Below(150))
 		for j := range l {
-			l[j] = alphabet[c.below(len(alphabet))]
-			if i%2 == 0 && c.below(2) == 0 {
-				l[j] = all[c.below(len(all))]
+			l[j] = alphabet[c.Below(len(alphabet))]
+			if i%2 == 0 && c.Below(2) == 0 {
+				l[j] = all[c.Below(len(all))]
 			}
 		}
-		checkAgainstReference(t, l, 1+c.below(api.MaxDeep))
+		checkAgainstReference(t, l, 1+c.Below(api.MaxDeep))
 	}
 }

@@ -6,6 +6,7 @@ import (
 
 	"winnowing/api"
 	"winnowing/nest"
+	"winnowing/probe"
 	"winnowing/toks"
 )
 
@@ -139,10 +140,10 @@ func TestSame(t *testing.T) {
 
 // P2.2, on values that nobody chose: Same holds just where all fields are told alike.
 func TestSameOfWildValues(t *testing.T) {
-	w := newWild(11)
+	w := probe.NewWild(11)
 	var lists [][]api.Val
 	for range 120 {
-		lists = append(lists, w.vals(2))
+		lists = append(lists, w.Vals(2))
 	}
 	for _, a := range lists {
 		for _, b := range lists {
@@ -234,10 +235,10 @@ func TestMay(t *testing.T) {
 
 // P2.3, word by word, on values that nobody chose.
 func TestMayOfWildValues(t *testing.T) {
-	w := newWild(3)
+	w := probe.NewWild(3)
 	valid := 0
 	for range 20000 {
-		l := w.vals(2)
+		l := w.Vals(2)
 		want := true
 		for _, x := range nest.Flat(l) {
 			want = want && toks.May(x)
@@ -270,23 +271,19 @@ func checkBack(t *testing.T, l []api.Token) {
 
 // P2.4: of any tokens; and the values of a text are valid.
 func TestValuesAreParsedBack(t *testing.T) {
-	eachTokens(toks.All("a(f([{)]}"), 5, func(l []api.Token) { checkBack(t, l) })
-	var c chance = 9
-	all := append(wildTokens(), toks.All("(((f([[{{)))]]}}")...)
+	probe.Each(toks.All("a(f([{)]}"), 5, func(l []api.Token) { checkBack(t, l) })
+	var c probe.Chance = 9
+	all := append(probe.WildTokens(), toks.All("(((f([[{{)))]]}}")...)
 	for range 2000 {
-		l := make([]api.Token, c.below(60))
+		l := make([]api.Token, c.Below(60))
 		for i := range l {
-			l[i] = all[c.below(len(all))]
+			l[i] = all[c.Below(len(all))]
 		}
 		checkBack(t, l)
 	}
 	for range 2000 {
 		const bytes = "a1-('[{)]}\"\n/*#@"
-		b := make([]byte, c.below(40))
-		for i := range b {
-			b[i] = bytes[c.below(len(bytes))]
-		}
-		if s := string(b); !nest.May(parsed(t, s)) {
+		if s := c.Bytes(bytes, 40); !nest.May(parsed(t, s)) {
 			t.Fatalf("the values of %q are not valid", s)
 		}
 	}

@@ -5,14 +5,15 @@ import (
 	"testing"
 
 	"winnowing/api"
+	"winnowing/probe"
 	"winnowing/toks"
 )
 
-func ident(name string) api.Token    { return api.Token{Kind: api.TokIdent, Text: name} }
-func function(name string) api.Token { return api.Token{Kind: api.TokFunc, Text: name} }
-func at(name string) api.Token       { return api.Token{Kind: api.TokAt, Text: name} }
-func hash(name string) api.Token     { return api.Token{Kind: api.TokHash, Text: name} }
-func delim(sign string) api.Token    { return api.Token{Kind: api.TokDelim, Text: sign} }
+// Short names for what the tables of the tests are made of.
+var ident, function, delim = probe.Ident, probe.Function, probe.Delim
+
+func at(name string) api.Token   { return api.Token{Kind: api.TokAt, Text: name} }
+func hash(name string) api.Token { return api.Token{Kind: api.TokHash, Text: name} }
 
 func num(n int, unit string) api.Token {
 	return api.Token{Kind: api.TokNum, Text: unit, N: n}
