@@ -1,6 +1,9 @@
 package sels
 
-import "winnowing/api"
+import (
+	"winnowing/api"
+	"winnowing/ascii"
+)
 
 // simple reads a simple selector, if one comes next.
 func (r *reader) simple(first bool) (api.Simple, bool) {
@@ -30,20 +33,9 @@ func (r *reader) element() (api.Simple, bool) {
 		return api.Simple{Kind: api.SimAny}, true
 	}
 	if t, ok := r.token(api.TokIdent); ok {
-		return api.Simple{Kind: api.SimTag, Name: lower(t.Text)}, true
+		return api.Simple{Kind: api.SimTag, Name: ascii.Lower(t.Text)}, true
 	}
 	return api.Simple{}, false
-}
-
-// lower changes the letters A to Z alone: a name is bytes, and need not be a text of any language.
-func lower(s string) string {
-	b := []byte(s)
-	for i, c := range b {
-		if 'A' <= c && c <= 'Z' {
-			b[i] = c - 'A' + 'a'
-		}
-	}
-	return string(b)
 }
 
 // attribute returns the selector that a square block with the values l is.

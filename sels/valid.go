@@ -4,6 +4,7 @@ import (
 	"slices"
 
 	"winnowing/api"
+	"winnowing/ascii"
 	"winnowing/toks"
 )
 
@@ -80,7 +81,7 @@ func validFields(x api.Simple) bool {
 	case api.SimAny, api.SimRoot, api.SimEmpty:
 		return true
 	case api.SimTag:
-		return isName(x.Name) && lower(x.Name) == x.Name
+		return isName(x.Name) && ascii.Lower(x.Name) == x.Name
 	case api.SimID:
 		return toks.May(api.Token{Kind: api.TokHash, Text: x.Name})
 	case api.SimClass, api.SimHas:
