@@ -1,4 +1,4 @@
-// Package probe makes tokens, values, selectors, declarations and items for the tests of the layers. The program itself does not call it.
+// Package probe makes tokens, values, selectors, declarations, items and tags for the tests of the layers. The program itself does not call it.
 package probe
 
 import (
